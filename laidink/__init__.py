@@ -1,0 +1,1 @@
+"""Laidink: rows of printing passes over masks that nobody tells."""
