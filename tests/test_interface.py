@@ -1,0 +1,96 @@
+"""The interface: what exists under which name, where, and with which arguments."""
+
+import importlib
+import inspect
+import unittest
+
+# For each function of a module its signature; generators are marked below.
+FUNCTIONS = {
+    "inks": {"mixed": "(*inks)", "laid": "(*inks)"},
+    "notation": {"read_row": "(text)", "write_row": "(row)"},
+    "spots": {
+        "open_sets": "(masks)",
+        "parting": "(first, second, *, ground=None, inked=None)",
+        "alike": "(first, second, *, ground=None, inked=None)",
+    },
+}
+# For each class of a module its signature and what stands in its own body.
+CLASSES = {
+    "inks": {
+        "Ink": ("(off, on, *, takes='any')", ["TAKES", "writes", "film", "told", "__eq__"]),
+        "Filter": ("(light, *, takes='any')", ["told"]),
+        "Opaque": ("(light, *, takes='any')", ["told"]),
+        "Bleach": ("(light, *, takes='any')", ["told"]),
+    },
+    "rows": {
+        "Pass": (
+            "(mask, ink, *, around=False)",
+            ["takes_part", "film_at", "told", "__eq__"],
+        ),
+        "Row": (
+            "(*passes)",
+            ["LIMIT", "MASKS", "of", "without", "reordered", "film_at", "print_at", "moments",
+             "told", "__add__", "__eq__", "__len__", "__getitem__", "__iter__"],
+        ),
+    },
+    "spots": {"Spot": ("(opened, ground, inked)", ["__eq__"])},
+}
+METHODS = {
+    ("inks", "Ink"): {"writes": "(self)", "film": "(self)", "told": "(self)"},
+    ("rows", "Pass"): {
+        "takes_part": "(self, opened)", "film_at": "(self, opened)", "told": "(self)",
+    },
+    ("rows", "Row"): {
+        "of": "(passes)", "without": "(self, *numbers)", "reordered": "(self, order)",
+        "film_at": "(self, opened)", "print_at": "(self, opened, ground, *, inked=False)",
+        "moments": "(self, opened, ground, *, inked=False)", "told": "(self)",
+    },
+}
+GENERATORS = [("spots", "open_sets"), ("rows", "Row.moments")]
+
+
+def found(module, path):
+    thing = importlib.import_module("laidink." + module)
+    for name in path.split("."):
+        thing = getattr(thing, name)
+    return thing
+
+
+class Interface(unittest.TestCase):
+    def test_functions(self):
+        for module, listed in FUNCTIONS.items():
+            for name, signature in listed.items():
+                one = found(module, name)
+                self.assertTrue(inspect.isfunction(one), name)
+                self.assertEqual(one.__module__, "laidink." + module)
+                self.assertEqual(str(inspect.signature(one)), signature, name)
+
+    def test_classes(self):
+        for module, listed in CLASSES.items():
+            for name, (signature, parts) in listed.items():
+                one = found(module, name)
+                self.assertTrue(inspect.isclass(one), name)
+                self.assertEqual(one.__module__, "laidink." + module)
+                self.assertEqual(str(inspect.signature(one)), signature, name)
+                for part in [*parts, "__init__"]:
+                    self.assertIn(part, vars(one), name)
+
+    def test_methods(self):
+        for (module, owner), listed in METHODS.items():
+            for name, signature in listed.items():
+                one = found(module, f"{owner}.{name}")
+                self.assertEqual(str(inspect.signature(one)), signature, name)
+
+    def test_generators_and_no_others(self):
+        generators = [found(module, path) for module, path in GENERATORS]
+        for one in generators:
+            self.assertTrue(inspect.isgeneratorfunction(one), one)
+        plain = [found(module, name) for module, listed in FUNCTIONS.items() for name in listed]
+        for (module, owner), listed in METHODS.items():
+            plain += [found(module, f"{owner}.{name}") for name in listed]
+        for one in plain:
+            self.assertEqual(inspect.isgeneratorfunction(one), one in generators, one)
+
+
+if __name__ == "__main__":
+    unittest.main()
