@@ -93,7 +93,21 @@ def least_number(patch):
 
 def has_number(patch, number):
     """Return True if the set with this number is in the patch."""
-    return (patch >> number) & 1 == 1
+    return ((patch >> number) & 1) == 1
+
+
+def effect_at(effect, number):
+    """Return the effect, in numbers of lights, at the set with this number."""
+    offs, ons, marks = effect
+    return (_light_number(offs, number), _light_number(ons, number), has_number(marks, number))
+
+
+def _light_number(patches, number):
+    light = 0
+    for band, patch in enumerate(patches):
+        if has_number(patch, number):
+            light = light | (1 << band)
+    return light
 
 
 def _set_order(names):

@@ -41,14 +41,13 @@ def parting(first, second, *, ground=None, inked=None):
     if patch == 0:
         return None
     number = least_number(patch)
-    starts = [
-        (colour, start)
+    spots = [
+        Spot(sets.listed[number], colour, start)
         for start in _starts(inked)
         for colour in _grounds(ground)
         if has_number(parted(one, other, colour, start), number)
     ]
-    colour, start = starts[0]
-    return Spot(sets.listed[number], colour, start)
+    return spots[0]
 
 
 def alike(first, second, *, ground=None, inked=None):

@@ -13,8 +13,17 @@ FUNCTIONS = {
         "parting": "(first, second, *, ground=None, inked=None)",
         "alike": "(first, second, *, ground=None, inked=None)",
     },
+    "charts": {"chart_of": "(row)"},
+    "papers": {"paper_for": "(first, second)", "holds": "(first, second, paper)"},
+    "plain": {
+        "levels": "(row, band)",
+        "plainest": "(row)",
+        "needless": "(row, *, ground=None, inked=None)",
+        "thinned": "(row)",
+        "joined": "(row, first, second)",
+    },
 }
-# For each class of a module its signature and what stands in its own body.
+# For each class of a module its signature, if callers make it, and what stands in its own body.
 CLASSES = {
     "inks": {
         "Ink": ("(off, on, *, takes='any')", ["TAKES", "writes", "film", "told", "__eq__"]),
@@ -34,6 +43,9 @@ CLASSES = {
         ),
     },
     "spots": {"Spot": ("(opened, ground, inked)", ["__eq__"])},
+    "charts": {
+        "Chart": (None, ["end", "fork", "size", "film_at", "leaves", "is_plain", "__eq__"]),
+    },
 }
 METHODS = {
     ("inks", "Ink"): {"writes": "(self)", "film": "(self)", "told": "(self)"},
@@ -45,8 +57,12 @@ METHODS = {
         "film_at": "(self, opened)", "print_at": "(self, opened, ground, *, inked=False)",
         "moments": "(self, opened, ground, *, inked=False)", "told": "(self)",
     },
+    ("charts", "Chart"): {
+        "end": "(film)", "fork": "(mask, when_shut, when_open)", "film_at": "(self, opened)",
+        "leaves": "(self)", "is_plain": "(self)",
+    },
 }
-GENERATORS = [("spots", "open_sets"), ("rows", "Row.moments")]
+GENERATORS = [("spots", "open_sets"), ("rows", "Row.moments"), ("charts", "Chart.leaves")]
 
 
 def found(module, path):
@@ -71,7 +87,8 @@ class Interface(unittest.TestCase):
                 one = found(module, name)
                 self.assertTrue(inspect.isclass(one), name)
                 self.assertEqual(one.__module__, "laidink." + module)
-                self.assertEqual(str(inspect.signature(one)), signature, name)
+                if signature is not None:
+                    self.assertEqual(str(inspect.signature(one)), signature, name)
                 for part in [*parts, "__init__"]:
                     self.assertIn(part, vars(one), name)
 
@@ -80,6 +97,12 @@ class Interface(unittest.TestCase):
             for name, signature in listed.items():
                 one = found(module, f"{owner}.{name}")
                 self.assertEqual(str(inspect.signature(one)), signature, name)
+
+    def test_static_methods_and_properties(self):
+        parts = vars(found("charts", "Chart"))
+        self.assertEqual([type(parts[name]) for name in ["end", "fork"]], [staticmethod] * 2)
+        self.assertIs(type(parts["size"]), property)
+        self.assertIs(type(vars(found("rows", "Row"))["of"]), classmethod)
 
     def test_generators_and_no_others(self):
         generators = [found(module, path) for module, path in GENERATORS]

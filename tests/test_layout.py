@@ -7,7 +7,9 @@ import unittest
 PACKAGE = pathlib.Path(__file__).resolve().parent.parent / "laidink"
 FILES = sorted(PACKAGE.glob("*.py"))
 # The modules in the order in which they may need one another.
-MODULES = ["errors", "light", "films", "inks", "effects", "rows", "fields", "spots", "notation"]
+MODULES = [
+    "errors", "light", "films", "inks", "effects", "rows", "fields", "spots", "charts", "papers", "plain", "notation",
+]
 
 
 def imports_of(path):

@@ -155,6 +155,11 @@ class Refused(unittest.TestCase):
             for ink in ["filter 0", "ink 0 1 bare", "opaque -"]:
                 self.check_line(side + " " + ink)
 
+    def test_lines_that_end_too_soon(self):
+        for line in ["on", "around", "all", "a", "filter", "bare", "-", "0", "ink 0 1", "filter 0", "on a", "all bare"]:
+            self.check_line(line)
+            self.check_line(line + " ")
+
     def test_blanks(self):
         for line in ["all filter 0", "on sky ink 0 1 bare", "around moon bleach 2.3 inked"]:
             self.check_line(" " + line)
