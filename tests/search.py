@@ -30,6 +30,16 @@ COLOURS = [
 ]
 
 
+def pairs_of_lights(bands):
+    """All pairs of lights off and on of these bands that share no band."""
+    found = []
+    for words in itertools.product(["leave", "off", "on"], repeat=len(bands)):
+        off = [band for band, word in zip(bands, words) if word == "off"]
+        on = [band for band, word in zip(bands, words) if word == "on"]
+        found.append((Light(*off), Light(*on)))
+    return found
+
+
 def all_sets(names):
     """All sets of the names as ascending tuples, in the order of point 22."""
     names = sorted(set(names))

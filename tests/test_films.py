@@ -7,20 +7,11 @@ import unittest
 from laidink.errors import InvalidBand
 from laidink.films import Film
 from laidink.light import Light
+from tests.search import pairs_of_lights
 
 HUGE = 10 ** 999
 COLOURS = [Light.numbered(number) for number in range(64)]
 STARTS = [(colour, inked) for colour in COLOURS for inked in (False, True)]
-
-
-def effects(bands):
-    """All pairs of lights off and on of these bands that share no band."""
-    found = []
-    for words in itertools.product(["leave", "off", "on"], repeat=len(bands)):
-        off = [band for band, word in zip(bands, words) if word == "off"]
-        on = [band for band, word in zip(bands, words) if word == "on"]
-        found.append((Light(*off), Light(*on)))
-    return found
 
 
 def films(bands):
@@ -30,8 +21,8 @@ def films(bands):
     first, makes it. A bare start stays bare and as it is, or has any effect:
     an ink that takes where nothing lies, laid second, makes it.
     """
-    starts = [(Light(), Light(), False)] + [(off, on, True) for off, on in effects(bands)]
-    return [Film(bare, (off, on, True)) for bare in starts for off, on in effects(bands)]
+    starts = [(Light(), Light(), False)] + [(off, on, True) for off, on in pairs_of_lights(bands)]
+    return [Film(bare, (off, on, True)) for bare in starts for off, on in pairs_of_lights(bands)]
 
 
 def film_of(off, on, takes):
@@ -72,7 +63,7 @@ class Calls(unittest.TestCase):
 
     def test_one_pass_of_every_condition(self):
         for takes in ["any", "bare", "inked"]:
-            for off, on in effects([0, 3, 5]):
+            for off, on in pairs_of_lights([0, 3, 5]):
                 film = film_of(off, on, takes)
                 for colour, inked in STARTS:
                     after = printed(off, on, takes, (colour, inked))

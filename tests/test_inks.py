@@ -7,22 +7,13 @@ from laidink.errors import InvalidInk, InvalidTakes
 from laidink.films import Film
 from laidink.inks import Bleach, Filter, Ink, Opaque, laid, mixed
 from laidink.light import Light
+from tests.search import pairs_of_lights
 
 LIGHTS = [Light.numbered(number) for number in range(64)]
 TAKES = ["any", "bare", "inked"]
 NO_TAKES = ["", "Any", "ANY", "any ", " bare", "bare inked", "none", "bar", "inke", "ink"]
 KINDS = [Filter, Opaque, Bleach]
 BEHIND = {"any": "", "bare": " bare", "inked": " inked"}
-
-
-def pairs_of_lights(bands):
-    """All pairs (off, on) of lights of these bands that share no band."""
-    found = []
-    for words in itertools.product(["leave", "off", "on"], repeat=len(bands)):
-        off = [band for band, word in zip(bands, words) if word == "off"]
-        on = [band for band, word in zip(bands, words) if word == "on"]
-        found.append((Light(*off), Light(*on)))
-    return found
 
 
 def inks(bands, takes=("any", "bare", "inked")):
