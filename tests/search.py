@@ -142,6 +142,27 @@ def effects(plan, opened):
     return [effect(plan, opened, start) for start in STARTS]
 
 
+def films_told(plan, names):
+    """The effects at all sets of these names; they tell what the plan prints there."""
+    return [effects(plan, opened) for opened in all_sets(names)]
+
+
+def shown(plan, opened, ground, inked):
+    """The colour that a plan leaves."""
+    return after(plan, opened, ground, inked)[0]
+
+
+def sets_showing(plan, names, ground, seen, inked):
+    """The sets of these names at which the plan leaves the colour seen."""
+    return [opened for opened in all_sets(names) if shown(plan, opened, ground, inked) == seen]
+
+
+def side_told(name, fits, words):
+    """The word for a mask that is open, shut or perhaps open in the sets that fit."""
+    sides = {name in opened for opened in fits}
+    return words[2] if len(sides) == 2 else words[0] if True in sides else words[1]
+
+
 def state_told(state):
     colour, inked = state
     return (colour.number, inked)

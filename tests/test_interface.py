@@ -22,6 +22,23 @@ FUNCTIONS = {
         "thinned": "(row)",
         "joined": "(row, first, second)",
     },
+    "orders": {"orders": "(row)", "must_stay": "(row)", "swaps": "(row)"},
+    "colours": {
+        "colours": "(row, ground, *, inked=False)",
+        "opened_for": "(row, ground, wanted, *, inked=False)",
+        "last_passes": "(row, ground, seen, *, inked=False)",
+        "masks_told": "(*prints, inked=False)",
+    },
+    "pulls": {
+        "confused": "(row, ground, moments, *, inked=False)",
+        "fewest_pulls": "(row, ground, *, inked=False)",
+    },
+    "faults": {
+        "all_faults": "(row)",
+        "faulty": "(row, fault)",
+        "silent_faults": "(row)",
+        "faults_told": "(row, ground, opened, seen, *, inked=False)",
+    },
 }
 # For each class of a module its signature, if callers make it, and what stands in its own body.
 CLASSES = {
@@ -62,7 +79,12 @@ METHODS = {
         "leaves": "(self)", "is_plain": "(self)",
     },
 }
-GENERATORS = [("spots", "open_sets"), ("rows", "Row.moments"), ("charts", "Chart.leaves")]
+GENERATORS = [
+    ("spots", "open_sets"), ("rows", "Row.moments"), ("charts", "Chart.leaves"), ("orders", "orders"),
+    ("colours", "colours"), ("faults", "all_faults"),
+]
+# The whole numbers that stand in the interface.
+NUMBERS = {("orders", "ORDER_LIMIT"): 6, ("pulls", "PULL_LIMIT"): 8}
 
 
 def found(module, path):
@@ -80,6 +102,12 @@ class Interface(unittest.TestCase):
                 self.assertTrue(inspect.isfunction(one), name)
                 self.assertEqual(one.__module__, "laidink." + module)
                 self.assertEqual(str(inspect.signature(one)), signature, name)
+
+    def test_numbers(self):
+        for (module, name), worth in NUMBERS.items():
+            one = found(module, name)
+            self.assertIs(type(one), int)
+            self.assertEqual(one, worth, name)
 
     def test_classes(self):
         for module, listed in CLASSES.items():

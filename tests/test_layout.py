@@ -8,7 +8,8 @@ PACKAGE = pathlib.Path(__file__).resolve().parent.parent / "laidink"
 FILES = sorted(PACKAGE.glob("*.py"))
 # The modules in the order in which they may need one another.
 MODULES = [
-    "errors", "light", "films", "inks", "effects", "rows", "fields", "spots", "charts", "papers", "plain", "notation",
+    "errors", "light", "films", "inks", "effects", "rows", "fields", "parts", "prints", "spots", "charts", "papers",
+    "plain", "orders", "colours", "pulls", "faults", "notation",
 ]
 
 
