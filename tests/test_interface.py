@@ -39,6 +39,11 @@ FUNCTIONS = {
         "silent_faults": "(row)",
         "faults_told": "(row, ground, opened, seen, *, inked=False)",
     },
+    "fewest": {"fewest_row": "(row, inks, *, most=3)"},
+    "sheets": {
+        "shares": "(row, screens, ground, *, inked=False)",
+        "shapes_told": "(row, before, after)",
+    },
 }
 # For each class of a module its signature, if callers make it, and what stands in its own body.
 CLASSES = {
@@ -63,6 +68,26 @@ CLASSES = {
     "charts": {
         "Chart": (None, ["end", "fork", "size", "film_at", "leaves", "is_plain", "__eq__"]),
     },
+    "shapes": {
+        "Shape": (
+            "(*lines)",
+            ["of", "blank", "mirrored", "tiled", "area", "__and__", "__or__", "__sub__", "__invert__", "__contains__",
+             "__eq__"],
+        ),
+    },
+    "sheets": {
+        "Sheet": (
+            "(width, height, ground, *, inked=False)",
+            ["at", "printed", "mirrored", "counts", "__eq__"],
+        ),
+    },
+    "press": {
+        "Press": (
+            "(sheet, *, limit=30)",
+            ["sheet", "row", "limit", "steps", "undone", "change_limit", "load", "unload", "shape_of", "lay", "run",
+             "tried", "undo", "redo", "twin", "told"],
+        ),
+    },
 }
 METHODS = {
     ("inks", "Ink"): {"writes": "(self)", "film": "(self)", "told": "(self)"},
@@ -78,13 +103,25 @@ METHODS = {
         "end": "(film)", "fork": "(mask, when_shut, when_open)", "film_at": "(self, opened)",
         "leaves": "(self)", "is_plain": "(self)",
     },
+    ("shapes", "Shape"): {
+        "of": "(lines)", "blank": "(width, height, *, opened=False)", "mirrored": "(self)",
+        "tiled": "(self, width, height)", "area": "(self)",
+    },
+    ("sheets", "Sheet"): {
+        "at": "(self, x, y)", "printed": "(self, row, shapes)", "mirrored": "(self)", "counts": "(self)",
+    },
+    ("press", "Press"): {
+        "change_limit": "(self, value)", "load": "(self, mask, shape)", "unload": "(self, mask)",
+        "shape_of": "(self, mask)", "lay": "(self, one)", "run": "(self, *passes)", "tried": "(self, *passes)",
+        "undo": "(self)", "redo": "(self)", "twin": "(self)", "told": "(self)",
+    },
 }
 GENERATORS = [
     ("spots", "open_sets"), ("rows", "Row.moments"), ("charts", "Chart.leaves"), ("orders", "orders"),
     ("colours", "colours"), ("faults", "all_faults"),
 ]
 # The whole numbers that stand in the interface.
-NUMBERS = {("orders", "ORDER_LIMIT"): 6, ("pulls", "PULL_LIMIT"): 8}
+NUMBERS = {("orders", "ORDER_LIMIT"): 6, ("pulls", "PULL_LIMIT"): 8, ("press", "PRESS_LIMIT"): 30}
 
 
 def found(module, path):
@@ -131,6 +168,12 @@ class Interface(unittest.TestCase):
         self.assertEqual([type(parts[name]) for name in ["end", "fork"]], [staticmethod] * 2)
         self.assertIs(type(parts["size"]), property)
         self.assertIs(type(vars(found("rows", "Row"))["of"]), classmethod)
+        shape = vars(found("shapes", "Shape"))
+        self.assertEqual([type(shape[name]) for name in ["of", "blank"]], [classmethod] * 2)
+        press = vars(found("press", "Press"))
+        for name in ["sheet", "row", "limit", "steps", "undone"]:
+            self.assertIs(type(press[name]), property)
+            self.assertIs(press[name].fset is not None, name == "limit")
 
     def test_generators_and_no_others(self):
         generators = [found(module, path) for module, path in GENERATORS]

@@ -1,6 +1,8 @@
 """How the package is laid out: its files, their sizes, what they import."""
 
 import ast
+import contextlib
+import io
 import pathlib
 import unittest
 
@@ -9,7 +11,7 @@ FILES = sorted(PACKAGE.glob("*.py"))
 # The modules in the order in which they may need one another.
 MODULES = [
     "errors", "light", "films", "inks", "effects", "rows", "fields", "parts", "prints", "spots", "charts", "papers",
-    "plain", "orders", "colours", "pulls", "faults", "notation",
+    "plain", "orders", "colours", "pulls", "faults", "fewest", "notation", "shapes", "sheets", "press",
 ]
 
 
@@ -42,9 +44,19 @@ class Layout(unittest.TestCase):
         for at, module in enumerate(MODULES):
             for node in imports_of(PACKAGE / (module + ".py")):
                 self.assertIsInstance(node, ast.ImportFrom)
+                if node.module == "math":
+                    self.assertEqual([one.name for one in node.names], ["lcm"])
+                    continue
                 above = ["laidink." + name for name in MODULES[:at]]
                 self.assertIn(node.module, above)
                 self.assertTrue(all(one.asname is None for one in node.names))
+
+    def test_the_usage_in_the_readme_runs(self):
+        text = (PACKAGE.parent / "README.md").read_text(encoding="utf-8")
+        code = text.split("```python\n")[1].split("```")[0]
+        with contextlib.redirect_stdout(io.StringIO()) as printed:
+            exec(code, {})
+        self.assertNotEqual(printed.getvalue(), "")
 
 
 if __name__ == "__main__":
